@@ -5,6 +5,7 @@ import (
 
 	"vista/api"
 	"vista/scroll"
+	"vista/snapshot"
 	"vista/tree"
 	"vista/wire"
 )
@@ -25,7 +26,7 @@ func (s *Server) keep(m api.Msg, tried *tree.Tree, done api.Seen) api.Errno {
 		return e
 	}
 	// The snapshot is that ahead of the mutation: its note stands behind it, and a power that is lost between the two loses the mutation alone.
-	e = s.journal.Turn(s.snapshot(s.tree, s.seen))
+	e = s.journal.Turn(snapshot.Records(s.epoch, s.tree, s.seen))
 	if e != api.OK {
 		return e
 	}
@@ -38,32 +39,8 @@ func (s *Server) fits(t *tree.Tree, seen []api.Seen) bool {
 		return false
 	}
 	pieces := 0
-	for _, record := range s.snapshot(t, seen) {
+	for _, record := range snapshot.Records(s.epoch, t, seen) {
 		pieces += scroll.Blocks(record)
 	}
 	return pieces < s.journal.Half()
-}
-
-// snapshot are the records of a journal that says just this tree and seen.
-func (s *Server) snapshot(t *tree.Tree, seen []api.Seen) [][]byte {
-	notes := []api.Note{{Kind: api.NoteBase, Epoch: s.epoch, Version: t.Version(), Next: t.Next()}}
-	for _, entry := range t.Dump() {
-		notes = append(notes, api.Note{Kind: api.NoteNode, Entry: entry})
-	}
-	for i, last := range seen {
-		if last.Life > 0 {
-			notes = append(notes, api.Note{Kind: api.NoteSeen, Client: i + 1, Seen: last})
-		}
-	}
-	return packed(notes)
-}
-
-// packed are notes as records. What is not plain was handed to New: it has no bytes, and so the journal refuses to be turned to it.
-func packed(notes []api.Note) [][]byte {
-	var records [][]byte
-	for _, note := range notes {
-		record, _ := wire.Pack(note)
-		records = append(records, record)
-	}
-	return records
 }
