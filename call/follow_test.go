@@ -432,7 +432,7 @@ func TestCallsComplete(t *testing.T) {
 	asked := 0
 	for seed := range 500 {
 		p := newPlay(t, rand.New(rand.NewSource(int64(seed))))
-		// With few promises a directory and its names may break one another for ever.
+		// With few promises, or with little room in the cache, the keys that one call needs may push one another out for ever.
 		if p.conf.Promises < 9 || p.conf.Dentries < api.MaxDentries {
 			continue
 		}
